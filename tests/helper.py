@@ -2,11 +2,42 @@
 
 from treestream.reading import answers
 
-NUMBERS = {"question": 0, "token": 1, "feed": 2, "finish": 3, "room": 7}
+NUMBERS = {"question": 0, "token": 1, "feed": 2, "finish": 3, "again": 4, "tokens": 5, "answers": 6, "room": 7}
 
 WRONG = [-1]
 NOT_NOW = [-8]
 NOTHING = [0]
+
+FORTY_ENTRIES = "[" + ", ".join(["[" + ", ".join(["1"] * 10) + "]"] * 3 + ["1"] * 6) + "]"
+EIGHT_FIELDS = "{" + ", ".join(name + ": 0" for name in "abcdefgh") + "}"
+
+# Every sort of leaf, the empty list and record, and trees at the bounds.
+TREES = [
+    "null", "true", "false", "0", "-1", "1000000000", "-1000000000", "\"\"", "\"a b\"", "\"\\\\\\\"\"", "\", ]\"",
+    "\"" + "\\\"" * 20 + "\"",
+    "[]", "[1]", "[1, 2]", "[[], {}]", "[null, true, false, -5, \"a, b\", [1], {a: 1}]",
+    "[" + ", ".join(["0"] * 10) + "]",
+    "{}", "{a: 1}", "{a: 1, b: 2}", "{a: {}, aa: [], b: {a: 1}}", "{a: \"x: y\"}", "{abcdefghij: 1}", "{null: null}",
+    EIGHT_FIELDS,
+    "[[[[[[]]]]]]", "[[[[[1]]]]]", "[[[[[{}]]]]]", "{a: {a: {a: {a: {a: {}}}}}}", "{a: {a: {a: {a: {a: 1}}}}}",
+    FORTY_ENTRIES,
+]
+
+NO_TREES = [
+    "", " ", "1 ", " 1", "1 2", "1, 2", "nul", "-0", "01", "1000000001", "-1000000001", "[1000000001]", "[-0]", "[00]",
+    "\"", "\"a", "\"\\n\"", "\"123456789012345678901\"", "[\"123456789012345678901\"]", "\"\x7f\"", "[\"\xe9\"]",
+    "[", "]", "{", "}", "a:", "a: 1", "[1", "1]", "{a: 1", "[1}", "{a: 1]", "[[1]", "[1]]", "[]]", "{}}", "[] ",
+    "[ ]", "[1 ]", "[ 1]", "[1,2]", "[1 , 2]", "[1,  2]", "[1, ]", "[, 1]", "[,]", "[1,, 2]", "[1 2]", "[1, 2,]",
+    "[1][2]", "[1], [2]", "[a: 1]", "[nulls]", "[a]",
+    "{ }", "{a}", "{a:}", "{a: }", "{a:1}", "{a :1}", "{a : 1}", "{a:  1}", "{ a: 1}", "{a: 1 }", "{a: 1,b: 2}",
+    "{a: 1, }", "{, a: 1}", "{a: 1, 2}", "{1}", "{1: 2}", "{\"a\": 1}", "{A: 1}", "{a: b: 1}", "{a: 1 b: 2}",
+    "{a: 1, a: 2}", "{b: 1, a: 2}", "{aa: 1, a: 2}", "{abcdefghijk: 1}", "{a1: 1, a0: 2}", "{a: {b: 1, b: 2}}",
+    "[" + ", ".join(["0"] * 11) + "]",
+    "{" + ", ".join(name + ": 0" for name in "abcdefghi") + "}",
+    "[[[[[[1]]]]]]", "[[[[[[[]]]]]]]", "[[[[[{a: 1}]]]]]", "{a: {a: {a: {a: {a: {a: 1}}}}}}",
+    FORTY_ENTRIES[:-1] + ", 1]",
+    "[" * 3000, "{a: " * 750, "[" * 1500 + "]" * 1500, "]" * 3000, "1" * 3000, "\"" + "a" * 2999, "[1, " * 750,
+]
 
 
 def as_bytes(text):
@@ -60,6 +91,10 @@ def fed(*things):
     return [len(things)] + [number for thing in things for number in thing]
 
 
+def texts(*those):
+    return [len(those)] + [number for text in those for number in counted(text)]
+
+
 def found(how_many):
     return [0, how_many]
 
@@ -75,5 +110,5 @@ def feed_and_finish(question, tree):
     return given[1:]
 
 
-def tokens_as_calls(texts):
-    return [("token", text) for text in texts]
+def tokens_as_calls(tokens):
+    return [("token", text) for text in tokens]

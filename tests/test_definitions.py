@@ -7,7 +7,7 @@ A tree is here a leaf's text, ("list", trees) or ("record", pairs of a name and 
 import random
 import unittest
 
-from helper import NOT_NOW, NOTHING, fault, fed, found, number, result, run, tokens_as_calls
+from helper import NOT_NOW, NOTHING, WRONG, fault, fed, found, number, result, run, texts, tokens_as_calls
 
 LEAVES = ["null", "false", "true", "-3", "0", "1", "2", "7", "1000000000", "-1000000000", "\"\"", "\"a\"", "\"\\\"\"", "\"b c\""]
 NUMBERS = ["1000000000", "-1000000000", "999999999", "5"]
@@ -270,10 +270,12 @@ class QuestionsOfTrees(unittest.TestCase):
         steps = len([link for link in question[3] if link[0] in ("field", "items", "all")])
         message = (text, text_of(tree))
         whole = [0, max(depth_of_open(tokens_of(tree))), entries_of(tree), 1, 1 if is_halted else 0]
-        given = run(("question", text), ("feed", text_of(tree)), ("finish",), ("room",), ("question", text),
-                    *tokens_as_calls(tokens_of(tree)), ("finish",), ("room",))
-        self.assertEqual(given[:5], [[steps], by_feed, end, whole, [steps]], message)
-        self.assertEqual(given[5:], by_token + [end, whole], message)
+        given = run(("question", text), ("feed", text_of(tree)), ("finish",), ("room",), ("again",),
+                    *tokens_as_calls(tokens_of(tree)), ("finish",), ("room",), ("answers", text_of(tree)),
+                    ("tokens", text_of(tree)))
+        self.assertEqual(given[:5], [[steps], by_feed, end, whole, [entries_of(tree)]], message)
+        self.assertEqual(given[5:-2], by_token + [end, whole], message)
+        self.assertEqual(given[-2:], [by_feed + end, texts(*tokens_of(tree))], message)
 
     def test_drawn_by_chance(self):
         chance = random.Random(20)
@@ -372,6 +374,114 @@ class WhichTokensCanCome(unittest.TestCase):
             self.assertEqual([answer != NOT_NOW for answer in given], awaited, calls)
             come_at_most = max(come_at_most, len(come))
         self.assertGreater(come_at_most, 40)
+
+
+# Whole lines of calls
+
+class Model:
+    """What the promises say of an object: its question, the tokens that have come, and no more."""
+
+    def __init__(self):
+        self.question = ("", "", 0, [(".",)])
+        self.come = []
+
+    def can_come(self, tokens):
+        for end in range(len(tokens)):
+            tree = completed(self.come + tokens[:end + 1])
+            if tree is None or not is_within_bounds(tree):
+                return False
+        return True
+
+    def is_whole(self):
+        return bool(self.come) and depth_of_open(self.come)[-1] == 0
+
+    def told(self, tokens):
+        """What's told at each of these when they come behind the others."""
+        everything = self.come + tokens
+        tree = completed(everything)
+        told = awaited_of(self.question, tree)[0]
+        given = [told.get(place, NOTHING) for place in places_at_tokens(tree)[:len(everything)]]
+        return given[len(self.come):]
+
+    def is_halted(self):
+        # A name changes nothing yet; without it no tree has to be added to complete the others.
+        come = self.come[:-1] if self.come and self.come[-1].endswith(":") else self.come
+        if not come:
+            return self.question[1] == "first" and self.question[2] == 0
+        return awaited_of(self.question, completed(come))[2]
+
+    def begun(self):
+        return len([token for token in self.come if token not in ("]", "}") and not token.endswith(":")])
+
+    def answer(self, name, thing):
+        """The thing is None, a question, a token's text or a tree."""
+        if name == "question":
+            self.question, self.come = thing, []
+            return [len([link for link in thing[3] if link[0] in ("field", "items", "all")])]
+        if name in ("token", "feed"):
+            tokens = [thing] if name == "token" else tokens_of(thing)
+            if not self.can_come(tokens):
+                return NOT_NOW
+            told = self.told(tokens)
+            self.come = self.come + tokens
+            return told[0] if name == "token" else fed(*[what for what in told if what != NOTHING])
+        if name == "finish":
+            return awaited_of(self.question, completed(self.come))[1] if self.is_whole() else NOT_NOW
+        if name == "again":
+            begun, self.come = self.begun(), []
+            return [begun]
+        if name == "tokens":
+            return texts(*tokens_of(thing))
+        if name == "answers":
+            other = Model()
+            other.question = self.question
+            return other.answer("feed", thing) + other.answer("finish", None)
+        opened = depth_of_open(self.come)
+        return [opened[-1], max(opened), self.begun(), 1 if self.is_whole() else 0, 1 if self.is_halted() else 0]
+
+
+class LinesOfCalls(unittest.TestCase):
+    NAMES = ["question"] + ["token"] * 10 + ["feed"] * 4 + ["finish"] * 3 + ["again", "tokens", "answers", "answers"]
+    TOKENS = ["[", "[", "{", "{", "]", "}", "]", "}", "1", "7", "null", "\"a\"", "a:", "b:", "c:"]
+    SPOILT = ["", "x", "[1", "{a: ", "[1]]", "(. | .", "first(61, .)", "nul", "\"", "01", "[[[[[[1]]]]]]"]
+
+    def drawn_call(self, chance):
+        """The call's name, its text or None, and what the text stands for."""
+        name = chance.choice(self.NAMES)
+        if name in ("finish", "again"):
+            return name, None, None
+        if chance.random() < 0.05:
+            return name, chance.choice(self.SPOILT), WRONG
+        if name == "token":
+            token = chance.choice(self.TOKENS)
+            return name, token, token
+        if name == "question":
+            question = drawn_question(chance)
+            text = question_text(chance, question)
+            # Too many nodes are another test's matter.
+            return (name, text, question) if run((name, text)) != [WRONG] else (name, "..", ("", "", 0, [("deep",)]))
+        tree = drawn_tree(chance, chance.choice([1, 2, 3, 5]), LEAVES)
+        return (name, text_of(tree), tree) if is_within_bounds(tree) else (name, "7", "7")
+
+    def test_drawn_by_chance(self):
+        chance = random.Random(5)
+        seen = {}
+        for line in range(400):
+            model = Model()
+            calls = []
+            awaited = []
+            for call in range(50):
+                name, text, thing = self.drawn_call(chance)
+                calls.append((name,) if text is None else (name, text))
+                awaited.append(WRONG if thing == WRONG else model.answer(name, thing))
+                calls.append(("room",))
+                awaited.append(model.answer("room", None))
+                seen[name] = seen.get(name, 0) + (awaited[-2][0] >= 0)
+                seen[tuple(awaited[-1][3:])] = seen.get(tuple(awaited[-1][3:]), 0) + 1
+            self.assertEqual(run(*calls), awaited, calls)
+        # Each call is answered, not refused, often enough, and at a whole tree and a halt too.
+        self.assertEqual(len(seen), 7 + 4)
+        self.assertGreater(min(seen.values()), 300, seen)
 
 
 if __name__ == "__main__":

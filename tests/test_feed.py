@@ -2,50 +2,21 @@
 
 import unittest
 
-from helper import NOT_NOW, NOTHING, WRONG, fault, fed, found, last, result, run, tokens_as_calls
-
-FORTY_ITEMS = "[" + ", ".join(["[" + ", ".join(["1"] * 10) + "]"] * 3 + ["1"] * 6) + "]"
-FORTY_ONE_ITEMS = "[" + ", ".join(["[" + ", ".join(["1"] * 10) + "]"] * 3 + ["1"] * 7) + "]"
-
-RIGHT = [
-    "null", "true", "false", "0", "-1", "1000000000", "-1000000000", "\"\"", "\"a b\"", "\"\\\\\\\"\"", "\", ]\"",
-    "\"" + "\\\"" * 20 + "\"",
-    "[]", "[1]", "[1, 2]", "[[], {}]", "[null, true, false, -5, \"a, b\", [1], {a: 1}]",
-    "[" + ", ".join(["0"] * 10) + "]",
-    "{}", "{a: 1}", "{a: 1, b: 2}", "{a: {}, aa: [], b: {a: 1}}", "{a: \"x: y\"}", "{abcdefghij: 1}", "{null: null}",
-    "{" + ", ".join(name + ": 0" for name in "abcdefgh") + "}",
-    "[[[[[[]]]]]]", "[[[[[1]]]]]", "[[[[[{}]]]]]", "{a: {a: {a: {a: {a: {}}}}}}", "{a: {a: {a: {a: {a: 1}}}}}",
-    FORTY_ITEMS,
-]
-
-WRONG_TEXTS = [
-    "", " ", "1 ", " 1", "1 2", "1, 2", "nul", "-0", "01", "1000000001", "-1000000001", "[1000000001]", "[-0]", "[00]",
-    "\"", "\"a", "\"\\n\"", "\"123456789012345678901\"", "[\"123456789012345678901\"]", "\"\x7f\"", "[\"\xe9\"]",
-    "[", "]", "{", "}", "a:", "a: 1", "[1", "1]", "{a: 1", "[1}", "{a: 1]", "[[1]", "[1]]", "[]]", "{}}", "[] ",
-    "[ ]", "[1 ]", "[ 1]", "[1,2]", "[1 , 2]", "[1,  2]", "[1, ]", "[, 1]", "[,]", "[1,, 2]", "[1 2]", "[1, 2,]",
-    "[1][2]", "[1], [2]", "[a: 1]", "[nulls]", "[a]",
-    "{ }", "{a}", "{a:}", "{a: }", "{a:1}", "{a :1}", "{a : 1}", "{a:  1}", "{ a: 1}", "{a: 1 }", "{a: 1,b: 2}",
-    "{a: 1, }", "{, a: 1}", "{a: 1, 2}", "{1}", "{1: 2}", "{\"a\": 1}", "{A: 1}", "{a: b: 1}", "{a: 1 b: 2}",
-    "{a: 1, a: 2}", "{b: 1, a: 2}", "{aa: 1, a: 2}", "{abcdefghijk: 1}", "{a1: 1, a0: 2}", "{a: {b: 1, b: 2}}",
-    "[" + ", ".join(["0"] * 11) + "]",
-    "{" + ", ".join(name + ": 0" for name in "abcdefghi") + "}",
-    "[[[[[[1]]]]]]", "[[[[[[[]]]]]]]", "[[[[[{a: 1}]]]]]", "{a: {a: {a: {a: {a: {a: 1}}}}}}",
-    FORTY_ONE_ITEMS,
-    "[" * 3000, "{a: " * 750, "[" * 1500 + "]" * 1500, "]" * 3000, "1" * 3000, "\"" + "a" * 2999, "[1, " * 750,
-]
+from helper import (FORTY_ENTRIES, NO_TREES, NOT_NOW, NOTHING, TREES, WRONG, fault, fed, found, last, result, run,
+                    tokens_as_calls)
 
 ROOM = ("room",)
 
 
 class TextsOfTrees(unittest.TestCase):
     def test_trees(self):
-        for text in RIGHT:
+        for text in TREES:
             given = run(("feed", text), ("finish",))
             head = text[0] if text[0] in "[{" else text
             self.assertEqual(given, [fed(result("/", head)), found(1)], text)
 
     def test_texts_that_are_no_trees(self):
-        for text in WRONG_TEXTS:
+        for text in NO_TREES:
             self.assertEqual(run(("feed", text), ROOM), [WRONG, [0, 0, 0, 0, 0]], text)
             self.assertEqual(run(("token", "["), ("feed", text), ROOM)[1:], [WRONG, [1, 1, 1, 0, 0]], text)
 
@@ -62,7 +33,7 @@ class TextsOfTrees(unittest.TestCase):
 
     def test_the_longest_text(self):
         long_text = "\"" + "\\\\" * 20 + "\""
-        tree = FORTY_ITEMS.replace("1", long_text)
+        tree = FORTY_ENTRIES.replace("1", long_text)
         self.assertLessEqual(len(tree), 3000)
         self.assertEqual(last(("feed", tree)), fed(result("/", "[")))
 

@@ -1,8 +1,8 @@
-"""Promise 8: room, as far as the calls that there are change what it answers."""
+"""Promise 8: room, and which calls change what it answers."""
 
 import unittest
 
-from helper import NOT_NOW, WRONG, last, run, tokens_as_calls
+from helper import FORTY_ENTRIES, NOT_NOW, WRONG, last, run, tokens_as_calls
 
 
 def rooms(question, tokens):
@@ -43,14 +43,31 @@ class OpenAndBegun(unittest.TestCase):
         self.assertEqual(given[2::2], [[1, 3, 5, 0, 0], [1, 3, 6, 0, 0], [0, 3, 6, 1, 0]])
 
     def test_forty_entries(self):
-        tree = "[" + ", ".join(["[" + ", ".join(["1"] * 10) + "]"] * 3 + ["1"] * 6) + "]"
-        self.assertEqual(last(("feed", tree), ("room",)), [0, 2, 40, 1, 0])
+        self.assertEqual(last(("feed", FORTY_ENTRIES), ("room",)), [0, 2, 40, 1, 0])
 
     def test_refused_calls_change_nothing(self):
         given = run(("token", "["), ("token", "1"), ("room",), ("token", "x"), ("token", "}"), ("feed", "[1"),
-                    ("feed", "[[[[[[]]]]]]"), ("question", ""), ("finish",), ("room",))
+                    ("feed", "[[[[[[]]]]]]"), ("question", ""), ("finish",), ("tokens", "[1"), ("answers", "[1"),
+                    ("room",))
         self.assertEqual(given[2], [1, 1, 2, 0, 0])
-        self.assertEqual(given[3:], [WRONG, NOT_NOW, WRONG, NOT_NOW, WRONG, NOT_NOW, [1, 1, 2, 0, 0]])
+        self.assertEqual(given[3:], [WRONG, NOT_NOW, WRONG, NOT_NOW, WRONG, NOT_NOW, WRONG, WRONG, [1, 1, 2, 0, 0]])
+
+    def test_tokens_answers_and_room_change_nothing(self):
+        others = [("tokens", "[[[[[[]]]]]]"), ("answers", "[[[[[[]]]]]]"), ("answers", "5"), ("room",)]
+        for question in ("..", ".a", "first(0, .)", "first(2, ..)", "sum(..)"):
+            calls = [("question", question)]
+            for text in ("[", "[", "1", "]", "{", "a:", "2", "}", "]"):
+                before = last(*calls, ("room",))
+                for other in others:
+                    self.assertEqual(last(*calls, other, ("room",)), before, (question, text, other))
+                self.assertEqual(last(*calls, *others, ("room",)), before, (question, text))
+                calls.append(("token", text))
+
+    def test_again_begins_it_all(self):
+        given = run(("feed", "[[[1]], 2]"), ("room",), ("again",), ("room",), ("token", "{"), ("room",), ("again",),
+                    ("room",), ("feed", "7"), ("room",))
+        self.assertEqual(given[1::2], [[0, 3, 5, 1, 0], [0, 0, 0, 0, 0], [1, 1, 1, 0, 0], [0, 0, 0, 0, 0],
+                                       [0, 0, 1, 1, 0]])
 
 
 class Halted(unittest.TestCase):
@@ -94,6 +111,13 @@ class Halted(unittest.TestCase):
     def test_a_new_question_ends_it(self):
         given = run(("question", "first(0, .)"), ("room",), ("question", "x"), ("room",), ("question", "."), ("room",))
         self.assertEqual(given[1::2], [[0, 0, 0, 0, 1], [0, 0, 0, 0, 1], [0, 0, 0, 0, 0]])
+
+    def test_again_ends_it_but_with_first_of_none(self):
+        for question, begins in (("first(0, ..)", 1), ("count(first(0, .))", 1), ("first(1, ..)", 0), (".a", 0),
+                                 ("try(.a)", 0), ("sum(.a)", 0)):
+            given = run(("question", question), ("room",), ("token", "["), ("room",), ("again",), ("room",),
+                        ("token", "["), ("room",))
+            self.assertEqual([room[4] for room in given[1::2]], [begins, 1, begins, 1], question)
 
     def test_tokens_still_come_and_count(self):
         self.assertEqual(rooms("first(0, .)", ["[", "{", "a:", "1", "}", "]"])[-1], [0, 2, 3, 1, 1])

@@ -1,4 +1,4 @@
-"""The errors of this program: one for each refusal, and one for a call that isn't built."""
+"""The errors of this program: one for each refusal, and one for a call that there isn't."""
 
 
 # The refusal -1: the text isn't what the call asks for.
@@ -11,6 +11,6 @@ class CannotCome(Exception):
     pass
 
 
-# No refusal: a call's number that the program doesn't know was handed in.
+# No refusal: what was handed in as a call's number is none.
 class UnknownCall(Exception):
     pass

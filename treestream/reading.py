@@ -8,6 +8,9 @@ QUESTION = 0
 TOKEN = 1
 FEED = 2
 FINISH = 3
+AGAIN = 4
+TOKENS = 5
+ANSWERS = 6
 ROOM = 7
 
 
@@ -20,6 +23,12 @@ def obey(session, number, text):
         return session.hear_tree(text)
     if number == FINISH:
         return session.finish()
+    if number == AGAIN:
+        return session.begin_again()
+    if number == TOKENS:
+        return session.list_tokens(text)
+    if number == ANSWERS:
+        return session.answer_tree(text)
     if number == ROOM:
         return session.room()
     raise UnknownCall()
@@ -42,7 +51,7 @@ def answers(calls):
         number = calls[at]
         text = []
         at += 1
-        if number in (QUESTION, TOKEN, FEED):
+        if number in (QUESTION, TOKEN, FEED, TOKENS, ANSWERS):
             end = at + 1 + calls[at]
             text = calls[at + 1:end]
             at = end
